@@ -13,8 +13,6 @@ func (s *Streams) Acked(f api.Frame) {
 		p.part.Acked(f.Offset, f.Size, f.Fin)
 	case api.KReset:
 		p.reset.ack()
-	default:
-		return
 	}
 	s.settle(s.open[f.Stream])
 }

@@ -112,7 +112,7 @@ func (s *Streams) waitingMaxStreamData(l []*stream) (word, bool) {
 	return word{}, false
 }
 
-// nextLimit is what Update tells, of an In that wants. (Only what may be asked without a change tells whether there is room for it.)
+// nextLimit is what Update will tell, of an In that wants: whether the frame has room is asked ahead of any change.
 func nextLimit(in *credit.In) int64 {
 	v := in.View()
 	return v.Consumed + v.Window
